@@ -37,8 +37,8 @@ def run_of(weighing, facts):
             run.append((place, deed))
             continue
         number, one, other = weighing.reasons[key]
-        _, size, _, count = weighing.worths[key]
-        if not size and not count:
+        _, _, _, count = weighing.worths[key]
+        if not count:
             continue
         if number >= 0:
             waiting.append((key, place, number))

@@ -177,6 +177,14 @@ class TogetherTest(unittest.TestCase):
         self.assertEqual((single(GROUP, "a") | single(GROUP, "b")).again(), whole(GROUP))
         self.assertEqual(Lot(GROUP, NOTHING).again(), single(GROUP, ""))
 
+    def test_a_start_that_is_met_again(self):
+        book = Book("abc", ())
+        lot = Lot(book, (2, ((0, "a", 1), (1, "b", 0)), (1,)))
+        self.assertEqual(lot.listed(3), ("a", "aba", "ababa"))
+        self.assertEqual(lot.again().listed(7), ("", "a", "aa", "aaa", "aba", "aaaa", "aaba"))
+        self.assertEqual((lot * lot).listed(4), ("aa", "aaba", "abaa", "aababa"))
+        self.assertEqual((lot | single(book, "c")).listed(4), ("a", "c", "aba", "ababa"))
+
     def test_a_product_changes_nothing(self):
         one, other = Lot(GROUP, loop("a")), Lot(GROUP, chain("b"))
         before = (one.automaton, other.automaton)

@@ -237,6 +237,36 @@ class CheapestTest(unittest.TestCase):
         told = self.check(book, (0, 0), (("a", "b", 0), ("a", "c", 0)), chain("a"), (2, ((0, "", 1), (0, "c", 1)), (1,)))
         self.assertEqual((told.goal_text, told.run), ("c", ((0, 3),)))
 
+    def test_a_longer_text_that_is_cheaper(self):
+        book = Book("abc", ())
+        loop = (2, ((0, "a", 1), (1, "a", 1)), (1,))
+        for price, text in ((4, "aaa"), (5, "a"), (6, "a")):
+            told = self.check(book, (), (("a", "c", 5), ("aaa", "c", price)), loop, chain("c"))
+            self.assertEqual((told.price, told.text), (min(price, 5), text))
+
+    def test_a_cheap_text_that_is_too_long(self):
+        book = Book("abcdef", ())
+        steps = (("aaaa", "b", 0), ("bbbb", "c", 0), ("cccc", "d", 0), ("dddd", "e", 3))
+        loop = (1, ((0, "a", 0),), (0,))
+        for price, fits in ((2, True), (3, True), (4, False)):
+            mends = steps + (("a", "e", price),)
+            if fits:
+                told = self.check(book, (), mends, loop, chain("e"))
+                self.assertEqual((told.price, told.text), (price, "a"))
+            else:
+                with self.assertRaises(TooMany) as caught:
+                    cheapest(book, (), mends, loop, chain("e"))
+                self.assertEqual(caught.exception.word, "sign")
+        # What is cheap about a text that is too long counts in a row, too.
+        for price, fits in ((6, True), (7, False)):
+            mends = steps + (("a", "f", price),)
+            goal = (4, ((0, "e", 1), (0, "f", 3), (1, "e", 3)), (3,))
+            if fits:
+                self.assertEqual(self.check(book, (), mends, loop, goal).text, "a")
+            else:
+                with self.assertRaises(TooMany):
+                    cheapest(book, (), mends, loop, goal)
+
     def test_200_signs(self):
         book = Book("abcdefgh", ())
         mends = (("aaaa", "b", 0), ("bbbb", "c", 0))
