@@ -34,11 +34,6 @@ def is_between(thing, low, high):
     return is_whole(thing) and low <= thing <= high
 
 
-def text_order(text):
-    """The key by which texts are ordered: a shorter text is less."""
-    return (len(text), text)
-
-
 def ascending_texts(texts):
     """The texts, ascending, as a tuple; each of them is passed once."""
     return tuple([text for _, text in sorted([(len(text), text) for text in texts])])
