@@ -38,10 +38,15 @@ def accepts(signs, automaton, text):
     return states & ends != 0
 
 
-def least_of_machine(signs, machine, table):
-    """The least automaton of the machine's texts that the table lets pass."""
+def smallest_of_machine(signs, machine, table):
+    """The least automaton, of whatever size, of the machine's texts that the table lets pass."""
     nexts, accepting = spread(len(signs), trimmed(len(signs), machine), table)
-    return kept(smallest(signs, nexts, accepting))
+    return smallest(signs, nexts, accepting)
+
+
+def least_of_machine(signs, machine, table):
+    """The least automaton of the machine's texts that the table lets pass, if it is not too large."""
+    return kept(smallest_of_machine(signs, machine, table))
 
 
 def least_automaton(signs, automaton):

@@ -129,7 +129,12 @@ def piece_table(signs, rules):
 
 
 def spread(width, machine, table):
-    """The sets of states that texts which the table lets pass lead to.
+    """The sets of states that texts which the table lets pass lead to, however many there are."""
+    return spread_within(width, machine, table, None)
+
+
+def spread_within(width, machine, table, most):
+    """The sets of states that texts which the table lets pass lead to; (None, None) if more than most.
 
     Told are a list in which nexts[node * width + sign] is the node to which the sign leads, or -1
     for none, and a list that tells whether each node accepts.
@@ -140,6 +145,8 @@ def spread(width, machine, table):
     nexts = []
     at = 0
     while at < len(nodes):
+        if most is not None and len(nodes) > most:
+            return None, None
         mask, spot = nodes[at]
         states = bits(mask)
         for sign in range(width):

@@ -34,9 +34,19 @@ def first_fit(rights, tail):
 
 def left_over(rights, text):
     """What the pile is behind the last sign of the text; the rights are those of first_rights."""
-    pile = []
-    for sign in text:
+    return left_behind(rights, "", text, False)
+
+
+def left_behind(rights, end, text, is_end):
+    """What the pile is behind the last sign of the text if it is an end at first; the text may be one, too."""
+    pile = list(end)
+    fresh = 0
+    for place, sign in enumerate(text):
+        # In an end stands no left side, so nothing more can be used behind so many signs of it.
+        if is_end and fresh == LONGEST_LEFT - 1:
+            return "".join(pile) + text[place:]
         pile.append(sign)
+        fresh += 1
         fit = first_fit(rights, "".join(pile[-LONGEST_LEFT:]))
         while fit is not None:
             _, left, right = fit
@@ -44,6 +54,7 @@ def left_over(rights, text):
                 pile.pop()
             if right:
                 pile.append(right)
+            fresh = 0
             fit = first_fit(rights, "".join(pile[-LONGEST_LEFT:]))
     return "".join(pile)
 
