@@ -98,6 +98,21 @@ def docstrings_of(tree):
     return found
 
 
+def base_inits(tree):
+    """The calls `Base.__init__(self, ..)` in the `__init__` of a class, each with the class's base."""
+    found = {}
+    for kind in classes_of(tree):
+        bases = [base.id for base in kind.bases]
+        for part in kind.body:
+            if isinstance(part, ast.FunctionDef) and part.name == "__init__":
+                for node in ast.walk(part):
+                    if (isinstance(node, ast.Call) and isinstance(node.func, ast.Attribute)
+                            and node.func.attr == "__init__" and isinstance(node.func.value, ast.Name)
+                            and node.func.value.id in bases and ast.unparse(node.args[0]) == "self"):
+                        found[node] = node.func.value.id
+    return found
+
+
 def own_names():
     """All functions and methods of the package: name to node (of the last one) and the classes' methods."""
     functions, methods = {}, {}
@@ -344,8 +359,9 @@ class CallsTest(unittest.TestCase):
     def test_methods(self):
         _, methods = own_names()
         for name, tree in TREES.items():
+            inits = base_inits(tree)
             for node in ast.walk(tree):
-                if isinstance(node, ast.Call) and isinstance(node.func, ast.Attribute):
+                if isinstance(node, ast.Call) and isinstance(node.func, ast.Attribute) and node not in inits:
                     word = node.func.attr
                     self.assertTrue(word in METHODS or word in methods, (name, node.lineno, word))
                     self.assertFalse(word.startswith("__"), (name, node.lineno))
@@ -379,10 +395,17 @@ class CallsTest(unittest.TestCase):
 
     def test_numbers_of_arguments(self):
         functions, methods = own_names()
+        inits = {kind.name: part for tree in TREES.values() for kind in classes_of(tree) for part in kind.body
+                 if isinstance(part, ast.FunctionDef) and part.name == "__init__"}
         for name, tree in TREES.items():
+            above = base_inits(tree)
             for node in ast.walk(tree):
                 if called(node) in functions:
                     self.assertTrue(self.fits(node, functions[called(node)], 0), (name, node.lineno))
+                elif called(node) in inits:
+                    self.assertTrue(self.fits(node, inits[called(node)], 1), (name, node.lineno))
+                elif node in above:
+                    self.assertTrue(self.fits(node, inits[above[node]], 0), (name, node.lineno))
                 elif isinstance(node, ast.Call) and isinstance(node.func, ast.Attribute):
                     found = methods.get(node.func.attr, [])
                     if node.func.attr not in METHODS:
@@ -590,6 +613,16 @@ class InterfaceTest(unittest.TestCase):
         "origins": ["origin", "all_end", "AllEnd"],
         "prices": ["price_table", "cheapest", "Cheapest"],
         "lots": ["Lot", "whole", "single", "meaning", "alike", "lies_within", "LiesWithin"],
+        "measures": ["measured", "Measured"],
+        "plainly": ["plainly", "Plainly"],
+        "quotients": ["some_behind", "every_behind", "some_ahead", "every_ahead", "between"],
+        "conditions": ["solutions"],
+        "sayings": ["Saying"],
+        "plays": ["Play"],
+        "singles": ["undoings", "units", "is_group", "divides"],
+        "cancelling": ["cancels_ahead", "cancels_behind", "Cancels", "exchanges", "Exchanges"],
+        "powers": ["powers", "power"],
+        "tables": ["table", "Table"],
     }
     PARAMETERS = {
         "checked_automaton": ["signs", "thing"], "accepts": ["signs", "automaton", "text"],
@@ -602,6 +635,12 @@ class InterfaceTest(unittest.TestCase):
         "all_end": ["book", "automaton", "goal"], "price_table": ["book", "prices", "mends", "automaton"],
         "cheapest": ["book", "prices", "mends", "automaton", "goal"], "whole": ["book"], "single": ["book", "text"],
         "meaning": ["book", "text"], "alike": ["book", "one", "other"], "lies_within": ["one", "other"],
+        "measured": ["lot"], "plainly": ["lot", "most"], "some_behind": ["first", "goal"],
+        "every_behind": ["first", "goal"], "some_ahead": ["last", "goal"], "every_ahead": ["last", "goal"],
+        "between": ["first", "last", "goal"], "solutions": ["book", "conditions"], "undoings": ["book", "text"],
+        "units": ["book"], "is_group": ["book"], "divides": ["book", "one", "other"], "cancels_ahead": ["book"],
+        "cancels_behind": ["book"], "exchanges": ["book"], "powers": ["book", "text"],
+        "power": ["book", "text", "goal"], "table": ["book"],
     }
     METHODS = {
         "Book": {"__init__": ["self", "signs", "rules"], "quarrel": ["self"], "__len__": ["self"],
@@ -611,6 +650,10 @@ class InterfaceTest(unittest.TestCase):
                 "__or__": ["self", "other"], "__and__": ["self", "other"], "__sub__": ["self", "other"],
                 "__mul__": ["self", "other"], "__eq__": ["self", "other"], "again": ["self"], "least": ["self"],
                 "listed": ["self", "many"], "counted": ["self", "size"]},
+        "Saying": {"__init__": ["self", "goal", "turns"], "__bool__": ["self"], "best": ["self", "turn", "stands"],
+                   "turned": ["self"]},
+        "Play": {"__init__": ["self", "saying", "start"], "start": ["self"], "stands": ["self"], "turn": ["self"],
+                 "winner": ["self"], "over": ["self"], "pick": ["self", "text"], "undo": ["self"]},
     }
 
     def test_all_is_defined_where_it_is_listed(self):
@@ -633,8 +676,9 @@ class InterfaceTest(unittest.TestCase):
     def test_verdicts_have_a_truth(self):
         for tree in TREES.values():
             for kind in classes_of(tree):
-                inits = [node for node in kind.body if isinstance(node, ast.FunctionDef) and node.name == "__init__"]
-                if inits and "holds" in parameters(inits[0]):
+                stored = [node.attr for node in ast.walk(kind) if isinstance(node, ast.Attribute)
+                          and isinstance(node.ctx, ast.Store)]
+                if "holds" in stored:
                     self.assertIn("__bool__", [node.name for node in kind.body if isinstance(node, ast.FunctionDef)])
 
 
