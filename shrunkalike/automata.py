@@ -5,13 +5,12 @@ from shrunkalike.checks import checked_signs
 from shrunkalike.checks import checked_text
 from shrunkalike.least import kept
 from shrunkalike.least import smallest
-from shrunkalike.machines import bits
 from shrunkalike.machines import free_table
+from shrunkalike.machines import is_taken
 from shrunkalike.machines import least_lacking
 from shrunkalike.machines import machine_of
 from shrunkalike.machines import spread
 from shrunkalike.machines import trimmed
-from shrunkalike.machines import united
 
 
 class Within:
@@ -32,10 +31,8 @@ def checked_automaton(signs, thing):
 
 def accepts(signs, automaton, text):
     """Whether the automaton accepts the text."""
-    many, rows, states, ends = machine_of(signs, checked_automaton(signs, automaton))
-    for sign in checked_text(signs, text):
-        states = united(rows, signs.index(sign) * many, bits(states))
-    return states & ends != 0
+    machine = machine_of(signs, checked_automaton(signs, automaton))
+    return is_taken(signs, machine, checked_text(signs, text))
 
 
 def smallest_of_machine(signs, machine, table):

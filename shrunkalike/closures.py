@@ -67,14 +67,13 @@ def seeds(signs, automaton):
     return found
 
 
-def outcome(grammar, many, rows, back, spot, fresh):
+def outcome(grammar, many, rows, back, begun, spot, fresh):
     """What comes of the fresh bits of the row at the spot: pairs of a row's number and a mask."""
     firsts, seconds, vanishing = grammar
     kind, state = spot // many, spot % many
     found = []
-    places = bits(fresh)
     for second, whole in firsts[kind]:
-        mask = united(rows, second * many, places)
+        mask = united(rows, second * many, bits(fresh & begun[second]))
         if mask:
             found.append((whole * many + state, mask))
     for first, whole in seconds[kind]:
@@ -90,6 +89,7 @@ def closed_rows(signs, rules, automaton):
     grammar = grammar_of(signs, rules)
     rows = [0] * (len(grammar[0]) * many)
     back = [0] * len(rows)
+    begun = [0] * len(grammar[0])
     fresh = [0] * len(rows)
     waiting = []
     todo = seeds(signs, automaton)
@@ -102,13 +102,14 @@ def closed_rows(signs, rules, automaton):
                     waiting.append(spot)
                 rows[spot] = rows[spot] | added
                 fresh[spot] = fresh[spot] | added
-                base = spot - spot % many
+                kind, start = spot // many, 1 << spot % many
+                begun[kind] = begun[kind] | start
                 for following in bits(added):
-                    back[base + following] = back[base + following] | 1 << spot % many
+                    back[kind * many + following] = back[kind * many + following] | start
         todo = []
         if at < len(waiting):
             spot = waiting[at]
-            todo = outcome(grammar, many, rows, back, spot, fresh[spot])
+            todo = outcome(grammar, many, rows, back, begun, spot, fresh[spot])
             fresh[spot] = 0
             at += 1
     return rows

@@ -56,6 +56,14 @@ def machine_of(signs, automaton):
     return (many, rows, empties[0], mask_of(ends))
 
 
+def is_taken(signs, machine, text):
+    """Whether the machine accepts the text."""
+    many, rows, states, ends = machine
+    for sign in text:
+        states = united(rows, signs.index(sign) * many, bits(states))
+    return states & ends != 0
+
+
 def leading_mask(width, machine):
     """The mask of the states from which some text leads to an end."""
     many, rows, _, ends = machine

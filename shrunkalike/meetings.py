@@ -88,7 +88,7 @@ class Meeting:
                 self._bases.append(self._kinds[(made, "")])
         self._heard.setdefault((kind, read[0]), []).append((taken, self._kinds[(made, read[1:])]))
 
-    def images(self, mask, text):
+    def led_by(self, mask, text):
         """The states to which the text leads from the states of the partner."""
         for sign in text:
             mask = united(self.forth, self.signs.index(sign) * self.many, bits(mask))
@@ -119,7 +119,7 @@ class Meeting:
             for middle, taken, _, made in self._uses:
                 if self._kinds[(made, "")] == kind:
                     ahead = self._kinds[(middle, "")]
-                    fresh[ahead] = fresh[ahead] | self.images(added, taken)
+                    fresh[ahead] = fresh[ahead] | self.led_by(added, taken)
                     waiting.append(ahead)
 
     def put(self, parts, kind, mask):

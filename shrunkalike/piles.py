@@ -34,28 +34,35 @@ def first_fit(rights, tail):
 
 def left_over(rights, text):
     """What the pile is behind the last sign of the text; the rights are those of first_rights."""
-    return left_behind(rights, "", text, False)
+    return left_of_all(rights, [(text, False)])
 
 
 def left_behind(rights, end, text, is_end):
     """What the pile is behind the last sign of the text if it is an end at first; the text may be one, too."""
-    pile = list(end)
-    fresh = 0
-    for place, sign in enumerate(text):
-        # In an end stands no left side, so nothing more can be used behind so many signs of it.
-        if is_end and fresh == LONGEST_LEFT - 1:
-            return "".join(pile) + text[place:]
-        pile.append(sign)
-        fresh += 1
-        fit = first_fit(rights, "".join(pile[-LONGEST_LEFT:]))
-        while fit is not None:
-            _, left, right = fit
-            for _ in left:
-                pile.pop()
-            if right:
-                pile.append(right)
-            fresh = 0
+    return left_of_all(rights, [(end, True), (text, is_end)])
+
+
+def left_of_all(rights, pieces):
+    """What the pile is behind texts that follow one another; each comes with whether it is an end."""
+    pile = []
+    for text, is_end in pieces:
+        fresh = 0
+        for place, sign in enumerate(text):
+            # In an end stands no left side, so nothing can be used where nothing else is reached.
+            if is_end and (not pile or fresh == LONGEST_LEFT - 1):
+                pile.extend(text[place:])
+                break
+            pile.append(sign)
+            fresh += 1
             fit = first_fit(rights, "".join(pile[-LONGEST_LEFT:]))
+            while fit is not None:
+                _, left, right = fit
+                for _ in left:
+                    pile.pop()
+                if right:
+                    pile.append(right)
+                fresh = 0
+                fit = first_fit(rights, "".join(pile[-LONGEST_LEFT:]))
     return "".join(pile)
 
 

@@ -49,13 +49,10 @@ def price_table(book, prices, mends, automaton):
     return tuple(found)
 
 
-def cheapest(book, prices, mends, automaton, goal):
-    """The least price for which some text of the automaton is led to some text of the goal."""
-    deeds = deeds_of(book, prices, mends)
-    checked = automaton_of(book.signs, automaton)
-    checked_goal = automaton_of(book.signs, goal)
-    weighing = Weighing(book.signs, deeds, checked, True)
-    found = led(weighing, checked, checked_goal)
+def led_cheaply(signs, deeds, automaton, goal):
+    """The least price for which the deeds lead some text of the automaton to some text of the goal."""
+    weighing = Weighing(signs, deeds, automaton, True)
+    found = led(weighing, automaton, goal)
     if found is None:
         return Cheapest(False, None, None, None, None)
     price, size, text, count = found.value
@@ -64,3 +61,10 @@ def cheapest(book, prices, mends, automaton, goal):
     if count > MOST_STEPS:
         raise TooMany("step")
     return Cheapest(True, price, text, found.goal_text, run_of(weighing, found.facts))
+
+
+def cheapest(book, prices, mends, automaton, goal):
+    """The least price for which some text of the automaton is led to some text of the goal."""
+    deeds = deeds_of(book, prices, mends)
+    checked = automaton_of(book.signs, automaton)
+    return led_cheaply(book.signs, deeds, checked, automaton_of(book.signs, goal))

@@ -35,7 +35,7 @@ LAZY = ("zip", "enumerate", "reversed", "range")
 VIEWS = ("items", "keys", "values")
 CHANGING = ("append", "extend", "insert", "pop", "remove", "clear", "reverse", "update", "setdefault", "add", "discard")
 STATEMENTS = (ast.Assign, ast.AugAssign, ast.If, ast.While, ast.For, ast.Return, ast.Break, ast.Continue, ast.Pass,
-              ast.Raise, ast.Expr, ast.FunctionDef, ast.ClassDef, ast.ImportFrom, ast.Delete)
+              ast.Raise, ast.Expr, ast.FunctionDef, ast.ClassDef, ast.ImportFrom, ast.Delete, ast.Try)
 FUNCTIONS = (ast.FunctionDef, ast.AsyncFunctionDef, ast.Lambda)
 
 
@@ -295,6 +295,7 @@ class ModulesTest(unittest.TestCase):
             known = set(defined_in(tree)) | {part.name for _, part in imports_of(tree)}
             for function in functions_of(tree):
                 known |= set(parameters(function)) | set(stored_names(function))
+            known |= {node.name for node in ast.walk(tree) if isinstance(node, ast.ExceptHandler)}
             for node in ast.walk(tree):
                 if isinstance(node, ast.Name) and node.id not in known and node.id != "property":
                     self.assertIn(node.id, BUILTINS, (name, node.lineno))
@@ -350,9 +351,27 @@ class StatementsTest(unittest.TestCase):
         for name, tree in TREES.items():
             for node in ast.walk(tree):
                 if isinstance(node, ast.Raise):
-                    self.assertIsNone(node.cause, name)
                     self.assertIn(called(node.exc), classes, (name, node.lineno))
                     self.assertEqual(node.exc.keywords, [], name)
+
+    def test_only_own_errors_are_caught(self):
+        classes = {kind.name for kind in classes_of(TREES["errors.py"])}
+        for name, tree in TREES.items():
+            caught = []
+            for node in ast.walk(tree):
+                if isinstance(node, ast.Try):
+                    self.assertEqual((node.finalbody, node.orelse), ([], []), (name, node.lineno))
+                if isinstance(node, ast.ExceptHandler):
+                    told = node.type.elts if isinstance(node.type, ast.Tuple) else [node.type]
+                    for part in told:
+                        self.assertIn(part.id, classes, (name, node.lineno))
+                    for part in ast.walk(node):
+                        if isinstance(part, ast.Raise) and part.cause is not None:
+                            self.assertEqual(part.cause.id, node.name, (name, node.lineno))
+                            caught.append(part)
+            for node in ast.walk(tree):
+                if isinstance(node, ast.Raise) and node not in caught:
+                    self.assertIsNone(node.cause, (name, node.lineno))
 
 
 class CallsTest(unittest.TestCase):
@@ -567,12 +586,13 @@ class OperatorsTest(unittest.TestCase):
 
     def test_nothing_is_changed(self):
         names = [function.name for function in self.reached()]
-        for word in ("quarrel", "__or__", "__mul__", "__contains__", "closed_rows", "spread", "blocks_of", "pairs_of"):
+        for word in ("quarrel", "__or__", "__mul__", "__contains__", "closed_rows", "spread", "blocks_of", "pairs_of",
+                     "image_of", "left_of_all", "live", "verdicts"):
             self.assertIn(word, names)
         for function in self.reached():
             own = self.created(function)
             objects = [node.targets[0].id for node in ast.walk(function) if isinstance(node, ast.Assign)
-                       and isinstance(node.targets[0], ast.Name) and called(node.value) == "Lot"]
+                       and isinstance(node.targets[0], ast.Name) and called(node.value) in ("Lot", "Sending")]
             for node in ast.walk(function):
                 place = (function.name, getattr(node, "lineno", 0))
                 if isinstance(node, ast.Call) and isinstance(node.func, ast.Attribute):
@@ -623,6 +643,16 @@ class InterfaceTest(unittest.TestCase):
         "cancelling": ["cancels_ahead", "cancels_behind", "Cancels", "exchanges", "Exchanges"],
         "powers": ["powers", "power"],
         "tables": ["table", "Table"],
+        "groupoids": ["undo_signs", "places", "undone", "undone_lot"],
+        "groupparts": ["parts", "Parts", "standard", "Standard"],
+        "samegroups": ["same_group", "SameGroup"],
+        "carrying": ["order", "carried", "root", "exchanging"],
+        "sendings": ["Sending", "Keeps", "Onto"],
+        "readers": ["Reader", "AllRight"],
+        "expressions": ["parse", "write"],
+        "values": ["value", "value_of"],
+        "booklines": ["write_book", "read_book"],
+        "desks": ["Desk"],
     }
     PARAMETERS = {
         "checked_automaton": ["signs", "thing"], "accepts": ["signs", "automaton", "text"],
@@ -640,7 +670,12 @@ class InterfaceTest(unittest.TestCase):
         "between": ["first", "last", "goal"], "solutions": ["book", "conditions"], "undoings": ["book", "text"],
         "units": ["book"], "is_group": ["book"], "divides": ["book", "one", "other"], "cancels_ahead": ["book"],
         "cancels_behind": ["book"], "exchanges": ["book"], "powers": ["book", "text"],
-        "power": ["book", "text", "goal"], "table": ["book"],
+        "power": ["book", "text", "goal"], "table": ["book"], "undo_signs": ["book"], "places": ["book"],
+        "undone": ["book", "text"], "undone_lot": ["lot"], "parts": ["book"], "standard": ["book"],
+        "same_group": ["one", "other"], "order": ["book", "text"], "carried": ["book", "one", "other"],
+        "root": ["book", "text"], "exchanging": ["book", "text"], "parse": ["signs", "text"],
+        "write": ["signs", "tree"], "value": ["book", "tree"], "value_of": ["book", "text"], "write_book": ["book"],
+        "read_book": ["lines"],
     }
     METHODS = {
         "Book": {"__init__": ["self", "signs", "rules"], "quarrel": ["self"], "__len__": ["self"],
@@ -654,6 +689,27 @@ class InterfaceTest(unittest.TestCase):
                    "turned": ["self"]},
         "Play": {"__init__": ["self", "saying", "start"], "start": ["self"], "stands": ["self"], "turn": ["self"],
                  "winner": ["self"], "over": ["self"], "pick": ["self", "text"], "undo": ["self"]},
+        "Sending": {"__init__": ["self", "one", "other", "images"], "__call__": ["self", "text"], "keeps": ["self"],
+                    "onto": ["self"], "sent": ["self", "lot"], "__mul__": ["self", "other"],
+                    "undone_by": ["self", "other_sending"], "__eq__": ["self", "other"]},
+        "Reader": {"__init__": ["self", "goal"], "live": ["self"], "right": ["self", "text"],
+                   "fault": ["self", "text"], "wanted": ["self", "text"], "completion": ["self", "text"],
+                   "fillings": ["self", "ahead", "behind"], "all_right": ["self", "automaton"],
+                   "mending": ["self", "text", "prices", "mends"]},
+        "Desk": {"__init__": ["self", "signs", "rules"], "current_book": ["self"], "claims": ["self"],
+                 "verdicts": ["self"], "add_rule": ["self", "left", "right"], "strike_rule": ["self", "number"],
+                 "add_claim": ["self", "title", "turns", "goal"], "drop_claim": ["self", "title"], "undo": ["self"],
+                 "redo": ["self"], "twin": ["self"]},
+    }
+    ATTRIBUTES = {
+        "Within": "holds text", "Book": "signs rules", "Settled": "holds meets text ends",
+        "SameEnds": "holds text one_end other_end", "Says": "holds number", "AllEnd": "holds end text",
+        "Cheapest": "holds price text goal_text run", "Lot": "book automaton", "LiesWithin": "holds end",
+        "Measured": "holds number longest ring", "Plainly": "holds automaton meanings parting",
+        "Saying": "goal turns plan starts holds", "Play": "saying picks", "Cancels": "holds sign pair",
+        "Exchanges": "holds pair", "Table": "holds ends rows ring", "Parts": "rank tables",
+        "Standard": "book there back", "SameGroup": "holds there back reason", "Sending": "one other images",
+        "Keeps": "holds number", "Onto": "holds sign", "Reader": "goal", "AllRight": "holds text at",
     }
 
     def test_all_is_defined_where_it_is_listed(self):
@@ -672,6 +728,14 @@ class InterfaceTest(unittest.TestCase):
             own = {node.name: parameters(node) for node in kinds[word].body if isinstance(node, ast.FunctionDef)}
             for method, names in listed.items():
                 self.assertEqual(own[method], names, (word, method))
+
+    def test_attributes_are_set_when_an_object_is_made(self):
+        kinds = {kind.name: kind for tree in TREES.values() for kind in classes_of(tree)}
+        for word, listed in self.ATTRIBUTES.items():
+            made = [node for node in kinds[word].body if isinstance(node, ast.FunctionDef) and node.name == "__init__"]
+            stored = {node.attr for node in ast.walk(made[0]) if isinstance(node, ast.Attribute)
+                      and isinstance(node.ctx, ast.Store) and node.value.id == "self"}
+            self.assertLessEqual(set(listed.split()), stored, word)
 
     def test_verdicts_have_a_truth(self):
         for tree in TREES.values():
