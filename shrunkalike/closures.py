@@ -72,12 +72,12 @@ def outcome(grammar, many, rows, back, begun, spot, fresh):
     firsts, seconds, vanishing = grammar
     kind, state = spot // many, spot % many
     found = []
+    for first, whole in seconds[kind]:
+        found.extend([(whole * many + ahead, fresh) for ahead in bits(back[first * many + state])])
     for second, whole in firsts[kind]:
         mask = united(rows, second * many, bits(fresh & begun[second]))
         if mask:
             found.append((whole * many + state, mask))
-    for first, whole in seconds[kind]:
-        found.extend([(whole * many + ahead, fresh) for ahead in bits(back[first * many + state])])
     if vanishing[kind]:
         found.append((state, fresh))
     return found
@@ -93,8 +93,7 @@ def closed_rows(signs, rules, automaton):
     fresh = [0] * len(rows)
     waiting = []
     todo = seeds(signs, automaton)
-    at = 0
-    while todo or at < len(waiting):
+    while todo or waiting:
         for spot, mask in todo:
             added = mask & ~rows[spot]
             if added:
@@ -107,11 +106,10 @@ def closed_rows(signs, rules, automaton):
                 for following in bits(added):
                     back[kind * many + following] = back[kind * many + following] | start
         todo = []
-        if at < len(waiting):
-            spot = waiting[at]
+        if waiting:
+            spot = waiting.pop()
             todo = outcome(grammar, many, rows, back, begun, spot, fresh[spot])
             fresh[spot] = 0
-            at += 1
     return rows
 
 

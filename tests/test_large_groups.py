@@ -77,6 +77,19 @@ class SendingsTest(unittest.TestCase):
         self.assertEqual([len(image) for image in twice.images], [40000] * 8)
         self.assertEqual(len((twice * sending)("a")), len(over(FREE_GROUP, (twice * sending).images[0])))
 
+    def test_a_sign_that_takes_up_all_others(self):
+        # Nearly all pairs of places of the images have closed edges.
+        book = Book(SIGNS, tuple((x + "h", "h") for x in SIGNS[:7]) + tuple(("h" + x, "h") for x in SIGNS))
+        chance = brute.made(2)
+        images = ["".join(chance.choice(SIGNS[:7]) for _ in range(200)) for _ in range(7)]
+        sending = Sending(FREE, book, images + ["h"])
+        self.assertEqual(sending.onto().sign, "a")
+        self.assertEqual(sending("abhc"), "h")
+        group = Book("ab", (("ab", ""), ("ba", "")))
+        powers = ["a" * 200, "b" * 199, "a" * 150, "b" * 163, "", "a" * 6, "b" * 10, "a" * 15]
+        self.assertTrue(Sending(FREE, group, powers).onto())
+        self.assertEqual(Sending(FREE, group, ["a" * 200, "b" * 198] * 4).sent(whole(FREE)).listed(3), ("", "aa", "bb"))
+
     def test_turned_by_a_long_text(self):
         x = over(FREE_GROUP, some_text(3, 150))[:95]
         back = "".join(UNDO[sign] for sign in x[::-1])
