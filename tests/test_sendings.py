@@ -315,22 +315,20 @@ class UndoneByTest(unittest.TestCase):
             self.assertEqual(caught.exception.word, "book")
 
     def test_the_image_of_a_sign_is_an_end(self):
-        # The image of a as it stands is aba, but it means a; what does not keep the rules tells them apart.
-        one = Sending(GROUP, GROUP, ("aba", "b"))
-        back = Sending(GROUP, GROUP, ("a", "b"))
-        self.assertIs(one.undone_by(back), True)
-        same = Book("abc", (("cc", ""), ("c", "")))
-        there, back = Sending(ONE, same, ("cca",)), Sending(same, ONE, ("a", "", "a"))
-        self.assertEqual((there * back).images, ("aaa",))
-        self.assertIs(there.undone_by(back), False)
-        book = Book("ac", (("c", ""),))
-        there, back = Sending(ONE, book, ("cca",)), Sending(book, ONE, ("a", ""))
+        # The image of a stands there as xy, but it is x; what leads back does not keep the rule.
+        there = Sending(FREE, Book("xy", (("xy", "x"),)), ("xy", "y"))
+        back = Sending(there.other, FREE, ("a", "b"))
+        self.assertEqual((there("a"), back("xy"), (there * back).images), ("x", "ab", ("ab", "b")))
         self.assertIs(there.undone_by(back), True)
-        there, back = Sending(ONE, book, ("cca",)), Sending(book, ONE, ("a", "a"))
-        self.assertEqual((there * back).images, ("aaa",))
+        self.assertIs(back.undone_by(there), True)
+        # A sign that is no end has to come back as its end.
+        there = Sending(Book("abc", (("c", ""),)), FREE, ("a", "b", ""))
+        back = Sending(FREE, there.one, ("a", "b"))
+        self.assertIs(there.undone_by(back), True)
+        self.assertIs(back.undone_by(there), True)
+        there = Sending(Book("abc", (("c", ""),)), FREE, ("a", "b", "b"))
         self.assertIs(there.undone_by(back), False)
-        there, back = Sending(ONE, GROUP, ("aba",)), Sending(GROUP, ONE, ("a", ""))
-        self.assertIs(there.undone_by(back), False)
+        self.assertIs(back.undone_by(there), False)
 
     def test_translators(self):
         for book, _ in groupkit.books(40, extra=2):
